@@ -1,6 +1,7 @@
 package event_test
 
 import (
+	"math"
 	"math/rand"
 	"regexp"
 	"slices"
@@ -219,6 +220,116 @@ func TestClearBetween(t *testing.T) {
 		if e, hits, x := event.Clear(e, l); !zero(e) || len(hits) > 0 || x != api.ErrLarge {
 			t.Error(where, hits, x)
 		}
+	}
+}
+
+// P4.5: strings between two rules may be longer than any memory.
+func TestClearLong(t *testing.T) {
+	sixes := strings.Repeat("6", 2000)
+	for _, c := range []struct {
+		where  string
+		change func(e *api.Event, text string)
+		most   int
+	}{
+		{"text", func(e *api.Event, text string) { e.Faults[0].Text = text }, 2000},
+		{"crumb k", func(e *api.Event, text string) { e.Crumbs = []api.Crumb{{Kind: "k", Text: text}} }, 2000},
+		{"tag k", func(e *api.Event, text string) { e.Tags = []api.Tag{{Name: "k", Value: text}} }, 200},
+		{"user", func(e *api.Event, text string) { e.User = text }, 200},
+		{"file", func(e *api.Event, text string) { e.Faults[0].Frames = []api.Frame{{Func: "f", File: text}} }, 200},
+	} {
+		given, left := simple(), simple()
+		c.change(&given, sixes[:c.most])
+		c.change(&left, "")
+		grow := strings.Repeat(c.where+" literal 6 digest\n", 48)
+		for _, last := range [][]string{{"all blank"}, {"hex 1 blank"}, {"digits 1 mask", "all blank"}} {
+			l := rules(t, grow+c.where+" "+strings.Join(last, "\n"+c.where+" ")+"\n")
+			e, hits, x := event.Clear(given, l)
+			if !event.Same(e, left) || len(hits) != len(l) || x != api.OK {
+				t.Fatal(c.where, last, hits, x)
+			}
+			for i, hit := range hits[:48] {
+				if hit != (event.Hit{Rule: i, Times: c.most << i}) {
+					t.Error(c.where, hit)
+				}
+			}
+			if hits[len(l)-1].Times != 1 {
+				t.Error(c.where, last, hits[48:])
+			}
+		}
+		if e, hits, x := event.Clear(given, rules(t, grow)); !zero(e) || len(hits) > 0 || x != api.ErrLarge {
+			t.Error(c.where, hits, x)
+		}
+	}
+}
+
+// P4.5: more hits than an int can tell are the greatest int.
+func TestClearOften(t *testing.T) {
+	l := rules(t, strings.Repeat("text digits 1 digest\n", 49)+"text all blank\n")
+	e, hits, x := event.Clear(said("1"+strings.Repeat(" 1", 999)), l)
+	if !event.Same(e, said("")) || len(hits) != 50 || x != api.OK {
+		t.Fatal(e, hits, x)
+	}
+	if hits[0].Times != 1000 || hits[48].Times != math.MaxInt || hits[49] != (event.Hit{Rule: 49, Times: 1}) {
+		t.Error(hits)
+	}
+	for i := range hits[:48] {
+		if hits[i].Times > hits[i+1].Times {
+			t.Error(hits[i:])
+		}
+	}
+}
+
+// growingRule is a rule that often makes a text longer, and leaves more to be found.
+func growingRule(r *rand.Rand, text string) event.Rule {
+	rule := event.Rule{Where: event.Texts, Find: event.Literal, Do: []int{event.Blank, event.Mask, event.Digest, event.Digest, event.Digest}[r.Intn(5)]}
+	switch r.Intn(8) {
+	case 0, 1:
+		rule.Find, rule.Least = event.Digits, 1+r.Intn(3)
+	case 2:
+		rule.Find, rule.Least = event.Hexes, 1+r.Intn(20)
+	case 3:
+		rule.Find = event.Mails
+	default:
+		rule.Text = randomFrom(r, "0123456789abcdef*", 1)
+		if from, long := r.Intn(len(text)+1), 1+r.Intn(8); from+long <= len(text) && !strings.Contains(text[from:from+long], " ") {
+			rule.Text = text[from : from+long]
+		}
+		if rule.Text == "" {
+			rule.Text = "6"
+		}
+	}
+	return rule
+}
+
+// P4.5: what is long between two rules, with a plain reading.
+func TestClearGrown(t *testing.T) {
+	r := rand.New(rand.NewSource(9))
+	found := 0
+	for range 1500 {
+		given := said(randomFrom(r, "0123456789abcdef* .@", 200))
+		left := said(given.Faults[0].Text)
+		var l []event.Rule
+		var want []event.Hit
+		use := func(rule event.Rule) {
+			for _, hit := range plainClear(&left, []event.Rule{rule}) {
+				want = append(want, event.Hit{Rule: len(l), Times: hit.Times})
+				found += hit.Times
+			}
+			l = append(l, rule)
+		}
+		for range 6 {
+			if len(left.Faults[0].Text) < 30_000 {
+				use(growingRule(r, left.Faults[0].Text))
+			}
+		}
+		use(event.Rule{Where: event.Texts, Find: event.All, Do: event.Digest})
+		e, hits, x := event.Clear(given, l)
+		if !event.Same(e, left) || !slices.Equal(hits, want) || x != api.OK {
+			t.Fatalf("%v of %q: %q %v %v, not %q %v", l, given.Faults[0].Text, e.Faults[0].Text, hits, x, left.Faults[0].Text, want)
+		}
+	}
+	if found < 100_000 {
+		t.Error(found)
 	}
 }
 

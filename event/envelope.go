@@ -13,22 +13,6 @@ const (
 	longDigits   = 7 // the most digits of the length of an item
 )
 
-// The digest is FNV-1a with 64 bits.
-const (
-	sumStart  = 14695981039346656037
-	sumFactor = 1099511628211
-)
-
-// Sum returns a digest of a string.
-func Sum(s string) string {
-	h := uint64(sumStart)
-	for i := range len(s) {
-		h = (h ^ uint64(s[i])) * sumFactor
-	}
-	digits := strconv.FormatUint(h, 16)
-	return strings.Repeat("0", idLong-len(digits)) + digits
-}
-
 // Seal packs items into an envelope.
 func Seal(l []Item) (string, api.Errno) {
 	if e := checkItems(l); e != api.OK {
